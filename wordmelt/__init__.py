@@ -1,0 +1,1 @@
+"""Words melted by rules, and whether each has one end."""
