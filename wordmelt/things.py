@@ -1,7 +1,8 @@
 """Words and rules.
 
 is_word(thing) and are_rules(thing) tell of any thing whether it is a word, or rules.
-is_less(one, other) tells whether the first of two words is less than the second.
+is_less(one, other) tells whether the first of two words is less than the second; rank(word) is what they are
+compared by.
 """
 
 LETTERS = "abc"
@@ -32,4 +33,8 @@ def is_pair_of_words(thing):
 
 
 def is_less(one, other):
-    return (len(one), one) < (len(other), other)
+    return rank(one) < rank(other)
+
+
+def rank(word):
+    return (len(word), word)
